@@ -1,0 +1,81 @@
+"""What DOC.md's interface lists stands in the file under which it stands there, with its arguments."""
+
+import ast
+import importlib
+import pathlib
+import unittest
+
+PACKAGE = pathlib.Path(__file__).resolve().parent.parent / "jarvisits"
+
+FUNCTIONS = {
+    "addresses": {
+        "is_host": ["thing"],
+        "is_path": ["thing"],
+        "is_address": ["thing"],
+        "is_within": ["host", "other"],
+        "is_below": ["path", "other"],
+    },
+    "sites": {
+        "need_site": ["thing"],
+        "keys_of": ["site"],
+        "key_of": ["site", "page", "number"],
+        "effects": ["site", "page"],
+    },
+}
+CLASSES = {
+    "errors": {
+        "JarError": None,
+        "BadSite": ["self", "place"],
+        "BadText": ["self", "line", "place"],
+        "BadAddress": ["self", "given"],
+        "BadRow": ["self", "given"],
+        "BadWish": ["self", "place"],
+        "BadName": ["self", "given"],
+        "BadPage": ["self", "given"],
+        "BadJar": ["self", "place"],
+        "TooMany": ["self", "most"],
+        "BadQuestion": None,
+    },
+}
+VALUES = {"sites": {"MOST_PAGES": 5, "MOST_WRITES": 5}}
+
+
+def parsed(module):
+    return ast.parse((PACKAGE / f"{module}.py").read_text())
+
+
+def defined(module, kind):
+    """A dict from the names to the nodes of what a file defines at its top."""
+    return {node.name: node for node in parsed(module).body if isinstance(node, kind)}
+
+
+def arguments(node):
+    """The names of the arguments of a function that takes nothing but plain ones without defaults."""
+    told = node.args
+    plain = not (told.vararg or told.kwarg or told.kwonlyargs or told.posonlyargs or told.defaults)
+    return [argument.arg for argument in told.args] if plain else None
+
+
+class Interface(unittest.TestCase):
+    def test_functions(self):
+        for module, listed in FUNCTIONS.items():
+            found = defined(module, ast.FunctionDef)
+            for name, wanted in listed.items():
+                self.assertIn(name, found)
+                self.assertEqual(arguments(found[name]), wanted, name)
+                self.assertEqual(getattr(importlib.import_module(f"jarvisits.{module}"), name).__name__, name)
+
+    def test_classes(self):
+        for module, listed in CLASSES.items():
+            found = defined(module, ast.ClassDef)
+            self.assertEqual(sorted(found), sorted(listed))
+            for name, wanted in listed.items():
+                made = [node for node in found[name].body if isinstance(node, ast.FunctionDef)]
+                self.assertEqual([node.name for node in made], [] if wanted is None else ["__init__"], name)
+                for node in made:
+                    self.assertEqual(arguments(node), wanted, name)
+
+    def test_values(self):
+        for module, listed in VALUES.items():
+            for name, wanted in listed.items():
+                self.assertEqual(getattr(importlib.import_module(f"jarvisits.{module}"), name), wanted)
