@@ -1,5 +1,7 @@
 """HOSTs, PATHs and ADDRESSes, and which lie within or below which."""
 
+from jarvisits.errors import BadAddress
+
 LETTERS = "abcdefghijklmnopqrstuvwxyz"
 SIGNS = "abcdefghijklmnopqrstuvwxyz0123456789"
 LONGEST_WORD = 6
@@ -40,6 +42,13 @@ def is_address(thing):
         return False
     host, path, secure = thing
     return is_host(host) and is_path(path) and isinstance(secure, bool)
+
+
+def need_address(thing):
+    """An ADDRESS itself; BadAddress of anything else."""
+    if not is_address(thing):
+        raise BadAddress(thing)
+    return thing
 
 
 def is_within(host, other):

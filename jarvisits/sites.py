@@ -1,7 +1,7 @@
 """WRITEs, PAGEs and SITEs, their KEYs, and the EFFECTs of PAGEs on KEYs."""
 
 from jarvisits.addresses import LETTERS, is_address, is_host, is_label, is_path, is_within, is_word
-from jarvisits.errors import BadPage, BadQuestion, BadSite
+from jarvisits.errors import BadName, BadPage, BadQuestion, BadSite
 
 MOST_PAGES = 5
 MOST_WRITES = 5
@@ -10,6 +10,13 @@ MOST_WRITES = 5
 def is_name(thing):
     """Whether anything is a NAME."""
     return is_word(thing, LETTERS)
+
+
+def need_name(thing):
+    """A NAME itself; BadName of anything else."""
+    if not is_name(thing):
+        raise BadName(thing)
+    return thing
 
 
 def is_number_below(thing, many):
@@ -29,6 +36,14 @@ def is_write(thing):
     if domain is not None and not is_host(domain):
         return False
     return folder is None or is_path(folder)
+
+
+def is_key(thing):
+    """Whether anything is a KEY, of whatever SITE."""
+    if not isinstance(thing, tuple) or len(thing) != 4:
+        return False
+    name, domain, folder, alone = thing
+    return is_name(name) and is_host(domain) and is_path(folder) and isinstance(alone, bool)
 
 
 def _need_page_form(thing, at):

@@ -21,6 +21,23 @@ FUNCTIONS = {
         "key_of": ["site", "page", "number"],
         "effects": ["site", "page"],
     },
+    "jars": {
+        "need_jar": ["thing"],
+        "visited": ["jar", "site", "page"],
+        "behind": ["site", "row"],
+        "sent": ["jar", "address"],
+        "read": ["jar", "address", "name"],
+    },
+    "rows": {
+        "jars": ["site"],
+        "row_to": ["site", "jar"],
+    },
+    "texts": {
+        "write_text": ["write"],
+        "address_text": ["address"],
+        "site_text": ["site"],
+        "read_site": ["string"],
+    },
 }
 CLASSES = {
     "errors": {

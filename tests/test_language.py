@@ -193,11 +193,40 @@ class Code(unittest.TestCase):
                 self.assertNotIn(name, ALL_BUILTINS)
 
     @on_each_file
+    def test_l15_no_local_name_of_a_class_or_an_import(self, text, tree):
+        barred = {alias.name for node in tree.body if isinstance(node, ast.ImportFrom) for alias in node.names}
+        barred |= {node.name for node in tree.body if isinstance(node, ast.ClassDef)}
+        for owner in ast.walk(tree):
+            if isinstance(owner, ast.FunctionDef):
+                self.assertFalse(barred.intersection(bound_names(owner)) - {owner.name}, owner.name)
+
+    def test_l18_no_name_is_a_method_and_an_attribute(self):
+        trees = [ast.parse(path.read_text(encoding="utf-8")) for path in FILES]
+        nodes = [node for tree in trees for node in ast.walk(tree)]
+        owners = [node for node in nodes if isinstance(node, ast.ClassDef)]
+        methods = {node.name for owner in owners for node in owner.body if isinstance(node, ast.FunctionDef)}
+        stored = {node.attr for node in nodes if isinstance(node, ast.Attribute) and isinstance(node.ctx, ast.Store)}
+        self.assertEqual(methods & stored, set())
+
+    @on_each_file
     def test_l20_is(self, text, tree):
         for node in ast.walk(tree):
             if isinstance(node, ast.Compare) and isinstance(node.ops[0], (ast.Is, ast.IsNot)):
                 sides = [node.left, *node.comparators]
                 self.assertTrue(any(isinstance(side, ast.Constant) for side in sides), ast.dump(node))
+
+    @on_each_file
+    def test_l24_l25_no_sorting_in_place_and_no_set_kept_by_other_means(self, text, tree):
+        kept = [node.value for node in ast.walk(tree) if isinstance(node, ast.Assign)]
+        calls = [node for node in ast.walk(tree) if isinstance(node, ast.Call) and isinstance(node.func, ast.Name)]
+        asked = [node.args[0] for node in calls if node.func.id in ("sorted", "len")]
+        compared = [side for node in ast.walk(tree) if isinstance(node, ast.Compare) for side in node.comparators]
+        made = [node for node in calls if node.func.id == "set"]
+        for node in ast.walk(tree):
+            if isinstance(node, ast.Attribute):
+                self.assertNotEqual(node.attr, "sort")
+            if node in made or isinstance(node, (ast.Set, ast.SetComp)):
+                self.assertIn(node, kept + asked + compared)
 
     @on_each_file
     def test_l7_no_generator_expressions(self, text, tree):

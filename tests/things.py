@@ -45,3 +45,11 @@ def odd_things():
 def replaced(row, at, thing):
     """The tuple with another thing in the place of its item with the number at."""
     return row[:at] + (thing,) + row[at + 1:]
+
+
+def refused(test, error, call, *told):
+    """The error of exactly this class that a call raises."""
+    with test.assertRaises(error) as caught:
+        call(*told)
+    test.assertIs(caught.exception.__class__, error)
+    return caught.exception
