@@ -80,19 +80,23 @@ def behind(site, row):
     return _jar_of(table)
 
 
+def reaches(key, host):
+    """Whether a KEPT with this KEY GOES to some ADDRESS with this HOST."""
+    _, domain, _, alone = key
+    return host == domain or (not alone and is_within(host, domain))
+
+
 def _goes(kept, address):
     """Whether a KEPT GOES to an ADDRESS."""
-    (_, domain, folder, alone), _, guarded = kept
+    key, _, guarded = kept
     host, path, secure = address
     if guarded and not secure:
         return False
-    if host != domain and (alone or not is_within(host, domain)):
-        return False
-    return is_below(path, folder)
+    return reaches(key, host) and is_below(path, key[2])
 
 
-def _pairs_sent(jar, address):
-    """The pairs (NAME, VALUE) that are SENT of a JAR to an ADDRESS, in the JAR's order."""
+def pairs_sent(jar, address):
+    """The pairs (NAME, VALUE) that are SENT to an ADDRESS of what is a JAR, in its order."""
     return tuple([(kept[0][0], kept[1]) for kept in jar if _goes(kept, address)])
 
 
@@ -100,7 +104,15 @@ def sent(jar, address):
     """The tuple of the pairs (NAME, VALUE) that are SENT of a JAR to an ADDRESS."""
     need_jar(jar)
     need_address(address)
-    return _pairs_sent(jar, address)
+    return pairs_sent(jar, address)
+
+
+def value_read(jar, address, name):
+    """The VALUE that is READ of a NAME at an ADDRESS of what is a JAR, or None."""
+    for sent_name, value in pairs_sent(jar, address):
+        if sent_name == name:
+            return value
+    return None
 
 
 def read(jar, address, name):
@@ -108,7 +120,4 @@ def read(jar, address, name):
     need_jar(jar)
     need_address(address)
     need_name(name)
-    for sent_name, value in _pairs_sent(jar, address):
-        if sent_name == name:
-            return value
-    return None
+    return value_read(jar, address, name)

@@ -7,16 +7,26 @@ from jarvisits.sites import keys_of, need_site, taken_writes
 MOST_KEYS = 6
 
 
-def need_few_keys(site):
-    """Refuses a SITE with more unlike KEYs than a function over all ROWs takes."""
-    if len(keys_of(site)) > MOST_KEYS:
+def need_few_keys(keys):
+    """Refuses more unlike KEYs than a function over all ROWs takes; equal ones count once."""
+    if len(set(keys)) > MOST_KEYS:
         raise TooMany(MOST_KEYS)
+
+
+def unlike_rows(many):
+    """The list of all ROWs of unlike PAGEs of so many, the shorter ones first."""
+    found = []
+    latest = [()]
+    while latest:
+        found += latest
+        latest = [row + (page,) for row in latest for page in range(many) if page not in row]
+    return found
 
 
 def jars(site):
     """A dict from all JARs BEHIND ROWs to ROWs as short as any that lead to them."""
     need_site(site)
-    need_few_keys(site)
+    need_few_keys(keys_of(site))
     writes_of = [taken_writes(page) for page in site]
     rows = {(): ()}
     latest = [()]

@@ -123,3 +123,8 @@ def effects(site, page):
     for key, value, guarded in taken_writes(site[need_page(site, page)]):
         found[key] = None if value is None else (value, guarded)
     return {key: found[key] for key in sorted(found)}
+
+
+def effects_of_pages(site):
+    """The list of the dicts from KEYs to EFFECTs of all PAGEs."""
+    return [effects(site, page) for page in range(len(need_site(site)))]

@@ -1,5 +1,6 @@
 """SITEs of all sorts, and JARs worked out apart from the program, each KEPT with its age as a number."""
 
+import itertools
 import random
 
 HOSTS = (("a", "b"), ("x", "a", "b"), ("y", "a", "b"), ("z", "x", "a", "b"), ("a", "c"))
@@ -91,3 +92,42 @@ def crowded_site(chance, pages, writes, keys):
 def chances(many):
     """So many sources of numbers, the same at each run."""
     return [random.Random(number) for number in range(many)]
+
+
+def effects_by_hand(page):
+    """A dict from the KEYs of the TAKEN WRITEs of a PAGE to what the last one with it leaves, or None."""
+    address, writes = page
+    found = {}
+    for write in writes:
+        aged = AgedJar()
+        aged.write(address, (write[0], "x") + write[2:])
+        for key in aged.kept:
+            found[key] = None if write[1] is None else (write[1], write[4])
+    return found
+
+
+def keys_by_hand(site):
+    """The ascending list of the KEYs of a SITE."""
+    return sorted({key for page in site for key in effects_by_hand(page)})
+
+
+def few_keys(site, most=6):
+    """Whether a SITE has at most so many unlike KEYs."""
+    return len(keys_by_hand(site)) <= most
+
+
+def all_rows(many, most):
+    """All ROWs of at most so many VISITs, shorter ones first."""
+    return [row for length in range(most + 1) for row in itertools.product(range(many), repeat=length)]
+
+
+def unlike_rows_by_hand(many):
+    """All ROWs of unlike PAGEs, shorter ones first."""
+    return [row for length in range(many + 1) for row in itertools.permutations(range(many), length)]
+
+
+def some_addresses():
+    """ADDRESSes with all the HOSTs and PATHs of these SITEs, and some near them."""
+    hosts = HOSTS + (("m", "a", "b"), ("m", "y", "a", "b"), ("m", "z", "x", "a", "b"), ("b", "a"))
+    paths = PATHS + (("p", "m"), ("p", "r", "s"))
+    return [(host, path, secure) for host in hosts for path in paths for secure in (False, True)]

@@ -28,9 +28,28 @@ FUNCTIONS = {
         "sent": ["jar", "address"],
         "read": ["jar", "address", "name"],
     },
+    "kinds": {
+        "kind_of": ["site", "address"],
+        "kinds": ["site"],
+    },
     "rows": {
         "jars": ["site"],
         "row_to": ["site", "jar"],
+    },
+    "wishes": {
+        "need_wish": ["site", "thing"],
+        "row_for": ["site", "wish"],
+        "bar": ["site", "wish"],
+        "is_bar": ["site", "wish", "thing"],
+    },
+    "signing": {
+        "doubled": ["site", "name"],
+        "pairs_kept": ["site", "name"],
+        "signs_out": ["site", "page", "name"],
+        "stays": ["site", "page", "name"],
+        "lacking": ["site", "page", "name"],
+        "beyond": ["site", "page", "name"],
+        "mended": ["site", "page", "name"],
     },
     "texts": {
         "write_text": ["write"],
