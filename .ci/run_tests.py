@@ -60,7 +60,7 @@ def run_all(folders):
         passed, failed = counts_of(path)
         total_passed += passed
         total_failed += failed
-    print(f"{total_passed} tests passed, {total_failed} failed")
+    print(f"{total_passed} passed, {total_failed} failed")
     return total_passed > 0 and total_failed == 0
 
 

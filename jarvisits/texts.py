@@ -1,6 +1,6 @@
 """Written forms of WRITEs, ADDRESSes and SITEs, and the SITE that a written form tells."""
 
-from jarvisits.addresses import LETTERS, LONGEST_WORD, SIGNS, is_address
+from jarvisits.addresses import LETTERS, LONGEST_WORD, SIGNS, is_address, need_address
 from jarvisits.errors import BadQuestion, BadText
 from jarvisits.sites import is_write, need_site
 
@@ -152,6 +152,14 @@ def _read_address(line):
     line.need("://")
     host = _read_host(line)
     return (host, _read_path(line), secure)
+
+
+def read_address(string):
+    """The ADDRESS whose written form this string is; BadText, then BadAddress."""
+    line = Line(string, 0)
+    address = _read_address(line)
+    line.need_end()
+    return need_address(address)
 
 
 def _read_write(line):

@@ -128,6 +128,6 @@ def unlike_rows_by_hand(many):
 
 def some_addresses():
     """ADDRESSes with all the HOSTs and PATHs of these SITEs, and some near them."""
-    hosts = HOSTS + (("m", "a", "b"), ("m", "y", "a", "b"), ("m", "z", "x", "a", "b"), ("b", "a"))
+    hosts = HOSTS + tuple(("m",) + host for host in HOSTS) + (("b", "a"),)
     paths = PATHS + (("p", "m"), ("p", "r", "s"))
     return [(host, path, secure) for host in hosts for path in paths for secure in (False, True)]

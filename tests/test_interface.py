@@ -51,11 +51,24 @@ FUNCTIONS = {
         "beyond": ["site", "page", "name"],
         "mended": ["site", "page", "name"],
     },
+    "readings": {
+        "readings": ["site", "page", "address", "name"],
+        "sure": ["site", "page", "address"],
+    },
+    "likeness": {
+        "alike": ["one", "other"],
+        "parted": ["one", "other"],
+        "needless": ["site"],
+        "lean": ["site"],
+    },
     "texts": {
         "write_text": ["write"],
         "address_text": ["address"],
         "site_text": ["site"],
         "read_site": ["string"],
+    },
+    "browser": {
+        "under": ["manager", "deed"],
     },
 }
 CLASSES = {
@@ -73,6 +86,29 @@ CLASSES = {
         "BadQuestion": None,
     },
 }
+METHODS = {
+    ("browser", "Browser"): {
+        "__init__": ["self", "site"],
+        "visit": ["self", "page"],
+        "site": ["self"],
+        "jar": ["self"],
+        "row": ["self"],
+        "sent": ["self", "address"],
+        "read": ["self", "address", "name"],
+        "undo": ["self"],
+        "clear": ["self"],
+        "__len__": ["self"],
+        "__contains__": ["self", "key"],
+        "trial": ["self"],
+        "__eq__": ["self", "other"],
+    },
+    ("desk", "Desk"): {
+        "__init__": ["self", "text"],
+        "browser": ["self"],
+        "say": ["self", "line"],
+    },
+}
+PROPERTIES = {"site", "jar", "row", "browser"}
 VALUES = {"sites": {"MOST_PAGES": 5, "MOST_WRITES": 5}}
 
 
@@ -110,6 +146,16 @@ class Interface(unittest.TestCase):
                 self.assertEqual([node.name for node in made], [] if wanted is None else ["__init__"], name)
                 for node in made:
                     self.assertEqual(arguments(node), wanted, name)
+
+    def test_methods(self):
+        for (module, owner), listed in METHODS.items():
+            body = defined(module, ast.ClassDef)[owner].body
+            found = {node.name: node for node in body if isinstance(node, ast.FunctionDef)}
+            self.assertEqual(getattr(importlib.import_module(f"jarvisits.{module}"), owner).__name__, owner)
+            for name, wanted in listed.items():
+                self.assertEqual(arguments(found[name]), wanted, name)
+                decorators = [ast.unparse(node) for node in found[name].decorator_list]
+                self.assertEqual(decorators, ["property"] if name in PROPERTIES else [], name)
 
     def test_values(self):
         for module, listed in VALUES.items():

@@ -32,6 +32,7 @@ DUNDERS = set(
     "init eq repr str len enter exit call iter lt le gt ge ne add sub mul floordiv mod pow and or xor lshift "
     "rshift neg pos invert abs bool contains getitem setitem".split()
 )
+DUNDER_NAMES = {f"__{name}__" for name in DUNDERS}
 BARRED_STATEMENTS = (ast.Global, ast.AsyncFunctionDef, ast.AsyncFor, ast.AsyncWith, ast.Await)
 
 
@@ -155,7 +156,16 @@ class Code(unittest.TestCase):
             if isinstance(node, ast.Assign):
                 self.assertEqual(len(node.targets), 1)
                 self.assertIsInstance(node.targets[0], ast.Name)
-                ast.literal_eval(node.value)
+                above = {other.name for other in tree.body[:at] if isinstance(other, ast.FunctionDef)}
+                self.check_plain(node.value, above if isinstance(node.value, (ast.Tuple, ast.Dict)) else set())
+
+    def check_plain(self, value, functions):
+        """A plain value, with nothing inside that can be changed; functions that are defined above may stand in it."""
+        for node in ast.walk(value):
+            allowed = (ast.Constant, ast.Tuple, ast.Load, ast.Name)
+            self.assertTrue(isinstance(node, allowed) or node is value, ast.dump(node))
+            if isinstance(node, ast.Name):
+                self.assertIn(node.id, functions)
 
     @on_each_file
     def test_l5_l6_statements(self, text, tree):
@@ -164,6 +174,42 @@ class Code(unittest.TestCase):
             if isinstance(node, ast.ClassDef):
                 self.assertEqual(node.decorator_list, [])
                 self.assertIn(node, tree.body)
+
+    @on_each_file
+    def test_l4_l5_decorators(self, text, tree):
+        methods = [node for owner in tree.body if isinstance(owner, ast.ClassDef) for node in owner.body]
+        for node in ast.walk(tree):
+            if isinstance(node, ast.FunctionDef) and node.decorator_list:
+                self.assertIn(node, methods)
+                self.assertEqual([ast.unparse(told) for told in node.decorator_list], ["property"])
+                self.assertEqual([argument.arg for argument in node.args.args], ["self"])
+
+    @on_each_file
+    def test_l5_what_is_only_asked_changes_nothing(self, text, tree):
+        asked = ("__len__", "__contains__", "__eq__")
+        for node in ast.walk(tree):
+            if isinstance(node, ast.FunctionDef) and (node.decorator_list or node.name in asked):
+                self.assertIsInstance(node.body[-1], ast.Return)
+                for part in ast.walk(node):
+                    if isinstance(part, (ast.Attribute, ast.Subscript)):
+                        self.assertIsInstance(part.ctx, ast.Load)
+
+    @on_each_file
+    def test_l6_the_ends_of_with_statements(self, text, tree):
+        for node in ast.walk(tree):
+            if isinstance(node, ast.FunctionDef) and node.name == "__exit__":
+                self.assertEqual([argument.arg for argument in node.args.args], ["self", "kind", "value", "trace"])
+                for row in node.body:
+                    self.assertIsInstance(row, ast.Assign)
+                    self.assertIsInstance(row.value, ast.Attribute)
+
+    @on_each_file
+    def test_l19_only_own_errors_are_caught(self, text, tree):
+        own = set(top_names(ast.parse((PACKAGE / "errors.py").read_text(encoding="utf-8"))))
+        for node in ast.walk(tree):
+            if isinstance(node, ast.ExceptHandler):
+                self.assertIsInstance(node.type, ast.Name)
+                self.assertIn(node.type.id, own | {"KeyError", "ZeroDivisionError"})
 
     @on_each_file
     def test_l7_no_floats(self, text, tree):
@@ -207,6 +253,8 @@ class Code(unittest.TestCase):
         methods = {node.name for owner in owners for node in owner.body if isinstance(node, ast.FunctionDef)}
         stored = {node.attr for node in nodes if isinstance(node, ast.Attribute) and isinstance(node.ctx, ast.Store)}
         self.assertEqual(methods & stored, set())
+        read = {node.attr for node in nodes if isinstance(node, ast.Attribute) and isinstance(node.ctx, ast.Load)}
+        self.assertLessEqual({name for name in read if name.startswith("_")}, stored | DUNDER_NAMES)
 
     @on_each_file
     def test_l20_is(self, text, tree):

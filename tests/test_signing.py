@@ -10,30 +10,10 @@ from jarvisits.jars import behind, sent
 from jarvisits.signing import beyond, doubled, lacking, mended, pairs_kept, signs_out, stays
 from jarvisits.sites import keys_of, need_site
 from models import all_rows, chances, crowded_site, effects_by_hand, few_keys, jar_by_hand, some_addresses, some_site
+from pages import ADDRESS, FAR, HOST, OPEN, OWN, SHOP, WIDE, many_keys, page_of, put
 from things import Unlike, deep, integers, odd_things, refused
 
-HOST = ("www", "shop", "org")
-SHOP = ("shop", "org")
-FAR = ("far", "net")
-ADDRESS = (HOST, ("in",), True)
-OPEN = (HOST, ("in",), False)
-OWN = ("id", HOST, (), True)
-WIDE = ("id", SHOP, (), False)
 SAME = ("id", HOST, (), False)
-
-
-def page_of(*writes, address=ADDRESS):
-    return (address, writes)
-
-
-def put(value, domain=None, name="id", folder=(), guarded=False):
-    return (name, value, domain, folder, guarded)
-
-
-def many_keys(many):
-    """A SITE with so many unlike KEYs."""
-    writes = [put("a", name="abcdefghij"[number]) for number in range(many)]
-    return tuple(page_of(*writes[at:at + 5]) for at in range(0, max(many, 1), 5))
 
 
 def small_sites():
@@ -217,7 +197,8 @@ class SigningOut(unittest.TestCase):
         self.assertFalse(signs_out((page_of(put(None), put("a")),), 0, "id"))
 
     def test_a_folder_more_or_another_domain_takes_nothing_out(self):
-        for write in (put(None, folder=("in",)), put(None, HOST), put(None, SHOP), put(None, name="no"), put(None, FAR)):
+        others = (put(None, folder=("in",)), put(None, HOST), put(None, SHOP), put(None, name="no"), put(None, FAR))
+        for write in others:
             site = (page_of(put("a")), page_of(write))
             self.assertEqual(lacking(site, 1, "id"), (OWN,))
             self.assertEqual(stays(site, 1, "id"), ((0, 1), (HOST, (), True)))
@@ -309,7 +290,8 @@ class Lacking(unittest.TestCase):
 class Mended(unittest.TestCase):
     def test_by_hand(self):
         site = (
-            page_of(put("a"), put("b", SHOP), put("c", name="no")), page_of(put("d", HOST, folder=("p",), guarded=True)),
+            page_of(put("a"), put("b", SHOP), put("c", name="no")),
+            page_of(put("d", HOST, folder=("p",), guarded=True)),
         )
         more = (
             ("id", None, SHOP, (), False), ("id", None, None, (), False), ("id", None, HOST, ("p",), False),

@@ -12,32 +12,14 @@ from jarvisits.wishes import bar, is_bar, need_wish, row_for
 from models import (
     chances, crowded_site, effects_by_hand, few_keys, jar_by_hand, keys_by_hand, some_site, unlike_rows_by_hand,
 )
+from pages import ADDRESS, HOST, OWN, SHOP, WIDE, many_keys, page_of, put
 from things import Unlike, deep, integers, odd_things, refused, replaced
 
-HOST = ("www", "shop", "org")
-SHOP = ("shop", "org")
-ADDRESS = (HOST, ("in",), True)
-OWN = ("id", HOST, (), True)
-WIDE = ("id", SHOP, (), False)
 NAMED = ("no", HOST, (), True)
-
-
-def page_of(*writes, address=ADDRESS):
-    return (address, writes)
-
-
-def put(value, domain=None, name="id", folder=(), guarded=False):
-    return (name, value, domain, folder, guarded)
 
 
 def worth(value, guarded=False):
     return (value, guarded)
-
-
-def many_keys(many):
-    """A SITE with so many unlike KEYs."""
-    writes = [put("a", name="abcdefghij"[number]) for number in range(many)]
-    return tuple(page_of(*writes[at:at + 5]) for at in range(0, max(many, 1), 5))
 
 
 def meets(jar, wish):
@@ -274,7 +256,8 @@ class Bars(unittest.TestCase):
 
     def test_of_all_tuples_of_ascending_numbers(self):
         for site in small_sites():
-            tuples = [pages for many in range(len(site) + 1) for pages in itertools.combinations(range(len(site)), many)]
+            numbers = range(len(site))
+            tuples = [some for many in range(len(site) + 1) for some in itertools.combinations(numbers, many)]
             for wish in all_wishes(site, 50):
                 for pages in tuples:
                     self.assertIs(is_bar(site, wish, pages), bars(site, wish, pages))
